@@ -1,0 +1,1 @@
+"""Pursewebs: games on any web whose moves are bought by bids."""
