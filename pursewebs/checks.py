@@ -48,7 +48,6 @@ def check_state_range(web, k, stand, purse):
 
 def check_row_state(web, k, row, stand, purse):
     """Raise WrongKind, then WrongNumber, if these are no web, k, row of parts in 0 .. k+1 and state."""
-    check_web(web)
-    check_whole(k, stand, purse)
+    check_whole(stand, purse)
     check_row_at(web, k, row)
     check_state_range(web, k, stand, purse)

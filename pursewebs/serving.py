@@ -60,7 +60,6 @@ def second_serving(web, k, row, stand, purse):
 
 def reply(web, k, row, stand, purse, p):
     """The least bid of the second hand that makes p and it good for that hand, None if there is none."""
-    check_web(web)
     check_whole(p)
     check_row_state(web, k, row, stand, purse)
     check_range(p, 0, purse)

@@ -4,7 +4,6 @@ from pursewebs.checks import check_state
 from pursewebs.dues import due_at
 from pursewebs.errors import WrongDeed
 from pursewebs.serving import bought
-from pursewebs.web import check_web
 from pursewebs.whole import GREATEST, check_most, check_range, check_whole
 
 
@@ -31,7 +30,6 @@ def settled_as(web, k, stand, purse):
 
 def next_state(web, k, stand, purse, p, q, step):
     """The state behind the move."""
-    check_web(web)
     check_whole(p, q, step)
     check_state(web, k, stand, purse)
     check_range(p, 0, purse)

@@ -3,15 +3,11 @@
 from pursewebs.checks import check_row_at
 from pursewebs.prices import dues_at, price_of
 from pursewebs.verdict import Verdict
-from pursewebs.web import check_web
-from pursewebs.whole import GREATEST, check_least, check_most, check_size, check_whole, whole_list
+from pursewebs.whole import GREATEST, check_least, check_most, check_size, whole_list
 
 
 def check_ranked(web, k, row, ranks):
     """Raise what is wrong with a web, a k, a row of parts in 0 .. k+1 and its ranks."""
-    check_web(web)
-    check_whole(k)
-    whole_list(row)
     whole_list(ranks)
     check_row_at(web, k, row)
     check_size(ranks, web.size)

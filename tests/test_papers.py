@@ -106,6 +106,15 @@ class Lower(Refusals):
                  ([[1, 1, 1, 1]], "c")]
         self.each_fault(joined_lower, [web, GREAT, [[0, 0, 0, 0], (0, 1, 2, 3)]], [NO_WEBS, BOUNDS, rows])
         self.refused(WrongNumber, joined_lower, web, 0, [[0, 0, 0, 2]])
+        self.refused(WrongNumber, joined_lower, web, -1, [[0, 0, 0, 0]])
+        self.assertEqual(joined_lower(web, 0, [[0, 0, 0, 1]]), (0, 0, 0, 1))
+
+    def test_no_k_below_0(self):
+        web, zeros = Web.line(3), (0, 0, 0, 0)
+        for call in (lower_faults, falling, is_exact):
+            self.refused(WrongNumber, call, web, -1, zeros)
+        for call in (upper_faults, Paper):
+            self.refused(WrongNumber, call, web, -1, zeros, zeros)
 
 
 class Upper(Refusals):

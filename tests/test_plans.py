@@ -3,7 +3,7 @@
 import unittest
 
 from pursewebs.builders import chain
-from pursewebs.errors import WrongDeed
+from pursewebs.errors import WrongDeed, WrongNumber
 from pursewebs.falling import falling
 from pursewebs.plans import FirstPlan, Plan, SecondPlan
 from pursewebs.rounds import number_row
@@ -206,6 +206,9 @@ class Second(Refusals):
         self.each_fault(SecondPlan, [Web.line(3), GREAT, (0, 0, GREAT + 1, 0)], [NO_WEBS, BOUNDS, ROWS])
         plan = SecondPlan(Web.line(3), 1, (0, 0, 1, 2))
         check_state_calls(self, plan, [plan.spare])
+        zeros = (0, 0, 0, 0)
+        self.refused(WrongNumber, SecondPlan, Web.line(3), -1, zeros)
+        self.refused(WrongNumber, FirstPlan, Web.line(3), -1, zeros, zeros)
 
 
 class Base(Refusals):

@@ -108,6 +108,16 @@ class Plays(Refusals):
         self.refused(WrongDeed, play.back)
         self.assertTrue(play == Play(Web.line(3), 3, 2, 1))
 
+    def test_a_claim_where_there_are_steps(self):
+        web = Web([[0, 1], []], [[1], []], [1, 1], [("less", 1), None])
+        play = Play(web, 3, 0, 3)
+        self.assertEqual(play.move(0, 0, 0), (0, 3))
+        play.claim()
+        self.refused(WrongDeed, play.move, 0, 0, 0)
+        self.refused(WrongNumber, play.move, 4, 0, 0)
+        self.refused(WrongDeed, play.claim)
+        self.assertEqual((play.over, play.winner, play.steps, play.stand), (True, 1, 1, 0))
+
     def test_equality(self):
         line = Web.line(3)
         play = played(line, (0, 0, 1))
