@@ -51,6 +51,13 @@ def due_at(due, k):
     return max(0, k + 1 - due[1])
 
 
+def slope_of(due, m):
+    """The slope of a right due with a right period m."""
+    if due is not None and due[0] == "chips":
+        return 0
+    return m
+
+
 def due_number(due, k):
     """The due number at k."""
     check_due(due)
@@ -68,9 +75,7 @@ def due_slope(due, m):
     check_due_range(due)
     check_least(m, 1)
     check_due_size(due)
-    if due is not None and due[0] == "chips":
-        return 0
-    return m
+    return slope_of(due, m)
 
 
 def due_word(due):

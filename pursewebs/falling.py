@@ -9,7 +9,11 @@ from pursewebs.whole import GREATEST, check_most
 
 def fallen_out(web, k, row):
     """The ranks and the rest of a row of parts in 0 .. k+1."""
-    heights = Heights(web, row)
+    return fallen_heights(web, k, Heights(web, row))
+
+
+def fallen_heights(web, k, heights):
+    """The same for the row that the Heights tell."""
     left = heights.below(dues_at(web, k))
     ranks = [None if left >> stand & 1 else 0 for stand in range(web.size)]
     for before, gone in enumerate(heights.leaving(left)):

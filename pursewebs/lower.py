@@ -1,11 +1,11 @@
 """Lower rows, which show from below where the number row is."""
 
-from pursewebs.checks import check_part_range, check_row_at
-from pursewebs.errors import WrongKind, WrongNumber
+from pursewebs.checks import check_part_range, check_row_at, check_row_lists
+from pursewebs.errors import WrongNumber
 from pursewebs.prices import next_of
 from pursewebs.verdict import Verdict
 from pursewebs.web import check_web
-from pursewebs.whole import GREATEST, check_least, check_most, check_whole, whole_list
+from pursewebs.whole import GREATEST, check_least, check_most, check_whole
 
 
 def lower_breaks(web, k, row):
@@ -25,10 +25,7 @@ def joined_lower(web, k, rows):
     """At each stand the greatest part of some lower rows."""
     check_web(web)
     check_whole(k)
-    if not isinstance(rows, (list, tuple)):
-        raise WrongKind("a list of rows is asked for")
-    for row in rows:
-        whole_list(row)
+    check_row_lists(rows)
     check_least(k, 0)
     check_least(len(rows), 1)
     for row in rows:

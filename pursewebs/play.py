@@ -117,10 +117,25 @@ def claim_by_plan(play, first):
         play.claim()
 
 
+def move_by_deeds(play, first_deed, second_deed):
+    """Make the move for a bid and a step of each hand."""
+    p, first_step = first_deed
+    q, second_step = second_deed
+    hand, _ = bought(play.web.marks[play.stand], play.purse, p, q)
+    play.move(p, q, first_step if hand == 1 else second_step)
+
+
+def check_play(thing):
+    """Raise WrongKind if thing is no play."""
+    if not isinstance(thing, Play):
+        raise WrongKind("a play is asked for")
+
+
 def play_on(play, first, second, most):
     """A copy of the play that both plans went on with."""
-    if not isinstance(play, Play) or not isinstance(first, FirstPlan) or not isinstance(second, SecondPlan):
-        raise WrongKind("a play and a plan of each hand are asked for")
+    check_play(play)
+    if not isinstance(first, FirstPlan) or not isinstance(second, SecondPlan):
+        raise WrongKind("a plan of each hand is asked for")
     check_whole(most)
     for plan in (first, second):
         if plan.web != play.web or plan.chips != play.chips:
@@ -130,10 +145,6 @@ def play_on(play, first, second, most):
     gone = play.copy()
     claim_by_plan(gone, first)
     while not gone.over and gone.steps - play.steps < most:
-        stand, purse = gone.stand, gone.purse
-        p, first_step = first(stand, purse)
-        q, second_step = second(stand, purse)
-        hand, _ = bought(play.web.marks[stand], purse, p, q)
-        gone.move(p, q, first_step if hand == 1 else second_step)
+        move_by_deeds(gone, first(gone.stand, gone.purse), second(gone.stand, gone.purse))
         claim_by_plan(gone, first)
     return gone

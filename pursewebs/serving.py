@@ -58,6 +58,22 @@ def second_serving(web, k, row, stand, purse):
     return tuple(idle + list(range(max(1, purse - low + 1), high - purse)))
 
 
+def bid_serves(web, row, stand, purse, hand, bid):
+    """True if a bid that the hand has at a right state serves it against the row."""
+    low = low_of(web, row, stand)
+    high = high_of(web, row, stand)
+    mark = web.marks[stand]
+    if hand == 1:
+        if mark == 2 and bid == 0:
+            return purse >= high
+        spare = 1 if mark == 1 else 0
+        return high - purse - spare <= bid <= purse - low
+    if mark == 1 and bid == 0:
+        return purse < low
+    more = 1 if mark == 1 else 0
+    return purse - low + more <= bid < high - purse
+
+
 def reply(web, k, row, stand, purse, p):
     """The least bid of the second hand that makes p and it good for that hand, None if there is none."""
     check_whole(p)

@@ -1,18 +1,16 @@
 """Upper rows, which show with ranks from above where the number row is."""
 
-from pursewebs.checks import check_row_at
+from pursewebs.checks import check_floor, check_row_at
 from pursewebs.prices import dues_at, price_of
 from pursewebs.verdict import Verdict
-from pursewebs.whole import GREATEST, check_least, check_most, check_size, whole_list
+from pursewebs.whole import GREATEST, check_most, whole_list
 
 
 def check_ranked(web, k, row, ranks):
     """Raise what is wrong with a web, a k, a row of parts in 0 .. k+1 and its ranks."""
     whole_list(ranks)
     check_row_at(web, k, row)
-    check_size(ranks, web.size)
-    for rank in ranks:
-        check_least(rank, 0)
+    check_floor(ranks, web.size)
     check_most(k, GREATEST)
 
 

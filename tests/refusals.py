@@ -3,11 +3,12 @@
 import copy
 import unittest
 
-from pursewebs.errors import PurseError, TooMuch, WrongDeed, WrongKind, WrongNumber, WrongWeb
+from pursewebs.errors import PurseError, TooMuch, WrongDeed, WrongKind, WrongNumber, WrongText, WrongWeb
 from pursewebs.web import Web
 
-# The letters are those of [3]; the least one of two decides.
-ERRORS = {"a": WrongKind, "b": WrongWeb, "c": WrongNumber, "d": WrongWeb, "e": WrongDeed, "f": TooMuch}
+# The letters a to f are those of [3]; the least one of two decides. Some calls look at g and h last.
+ERRORS = {"a": WrongKind, "b": WrongWeb, "c": WrongNumber, "d": WrongWeb, "e": WrongDeed, "f": TooMuch, "g": WrongDeed,
+          "h": WrongText}
 
 NO_WEBS = [(bad, "a") for bad in (None, 5, True, "web", [], [[], [], [], []], Web)]
 NO_INTEGERS = [(bad, "a") for bad in (None, True, False, "1", 1.0, [1], (1,), b"1")]

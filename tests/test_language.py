@@ -10,7 +10,7 @@ import re
 import unittest
 
 FOLDER = os.path.join(os.path.dirname(os.path.dirname(os.path.abspath(__file__))), "pursewebs")
-LIBRARY = {"math": {"gcd"}}
+LIBRARY = {"math": {"gcd", "lcm"}}
 BUILTINS = set("""len range enumerate zip min max sum abs sorted reversed int str bool list tuple dict set isinstance ord
     repr any all divmod iter Exception ValueError TypeError KeyError NotImplemented""".split())
 METHODS = set("""append clear copy count endswith extend find get index insert isdigit items join keys ljust lower
@@ -24,7 +24,7 @@ BARRED_WORDS = re.compile(r"\b(type|typing|typing_extensions|enum|Enum|IntEnum|S
                           r"ABCMeta|namedtuple|NamedTuple|TypedDict|TYPE_CHECKING|abstractmethod)\b|dataclass|overload|"
                           r"contextmanager|_wall|_WallAttr")
 SPECIAL = set("""__init__ __eq__ __str__ __bool__ __iter__ __call__ __add__ __radd__ __sub__ __rsub__ __mul__ __rmul__
-    __invert__""".split())
+    __invert__ __getitem__""".split())
 STATEMENTS = (ast.Assign, ast.AugAssign, ast.If, ast.While, ast.For, ast.Return, ast.Break, ast.Continue, ast.Pass,
               ast.Raise, ast.Assert, ast.Delete, ast.Try, ast.Expr, ast.FunctionDef, ast.ClassDef, ast.ImportFrom)
 EXPRESSIONS = (ast.Lambda, ast.GeneratorExp, ast.Await, ast.NamedExpr, ast.Div, ast.MatMult, ast.Set, ast.SetComp)
@@ -177,10 +177,22 @@ class Language(unittest.TestCase):
                 if word == "set":
                     self.assertIn("sorted(set(", ast.get_source_segment(self.texts[name], parent(tree, node)))
 
+    def test_what_is_indexed_is_not_iterated_over(self):
+        for name, tree in self.each():
+            for node in named(tree, ast.ClassDef):
+                methods = {part.name: part for part in node.body if isinstance(part, ast.FunctionDef)}
+                self.assertNotIn("keys", methods)
+                if "__getitem__" in methods:
+                    self.assertEqual(ast.unparse(methods["__iter__"].body[0])[:16], "raise TypeError(", node.name)
+
     def test_raised_errors_are_made_on_the_spot(self):
         own = {node.name for node in named(self.trees["errors"], ast.ClassDef)}
         for name, tree in self.each():
+            iterators = [node for node in named(tree, ast.FunctionDef) if node.name == "__iter__"]
+            allowed = [part for node in iterators for part in named(node, ast.Raise)]
             for node in named(tree, ast.Raise):
+                if node in allowed:
+                    continue
                 self.assertIn(node.exc.func.id, own, name)
                 self.assertEqual([type(arg.value) for arg in node.exc.args], [str], (name, node.lineno))
                 self.assertNotEqual(node.exc.args[0].value, "")
