@@ -1,0 +1,115 @@
+"""Equations between the shares of stands: used steps, the determinant and the solution."""
+
+from pursewebs.checks import check_list, check_stand
+from pursewebs.errors import WrongNumber, WrongWeb
+from pursewebs.share import Share
+from pursewebs.sharepaper import check_share_row, exact_shares, fallen_shares, told_steps
+from pursewebs.shareparts import part_of
+from pursewebs.web import check_web
+from pursewebs.whole import check_size, whole_list
+
+
+def picked(steps, ranks, rank):
+    """The least of the steps of a rank below this one, the least of them if there is none."""
+    lower = [step for step in steps if ranks[step] < rank]
+    return min(lower) if lower else min(steps)
+
+
+def used_by(web, shares, ranks, stand):
+    """The two used steps of the stand, None at rank 0."""
+    rank = ranks[stand]
+    if rank == 0:
+        return None
+    order, firsts, seconds = told_steps(web, shares, stand)
+    first = picked(firsts, ranks, rank)
+    second = picked(seconds, ranks, rank)
+    if order < 0:
+        return (first, second)
+    if web.marks[stand] == 1 or (order == 0 and ranks[first] < rank):
+        return (first, first)
+    return (second, second)
+
+
+def used_steps(web, shares):
+    """The used steps of each stand at an exact share row."""
+    check_share_row(web, shares)
+    if not exact_shares(web, shares):
+        raise WrongNumber("the share row is not exact")
+    ranks, _ = fallen_shares(web, shares)
+    return tuple([used_by(web, shares, ranks, stand) for stand in range(web.size)])
+
+
+def check_pairs(web, pairs):
+    """Raise what is wrong with a web and the pairs of its stands."""
+    check_web(web)
+    check_list(pairs)
+    told = [whole_list(pair) for pair in pairs if pair is not None]
+    check_size(pairs, web.size)
+    for pair in told:
+        check_size(pair, 2)
+        check_stand(web, pair[0])
+        check_stand(web, pair[1])
+
+
+def equations(web, pairs):
+    """A row of integers for each stand with a pair: its coefficients, and then what they give."""
+    paired = [stand for stand in range(web.size) if pairs[stand] is not None]
+    columns = {stand: place for place, stand in enumerate(paired)}
+    found = []
+    for stand in paired:
+        row = [0] * (len(paired) + 1)
+        row[columns[stand]] = 2
+        for step in pairs[stand]:
+            if step in columns:
+                row[columns[step]] -= 1
+            else:
+                row[len(paired)] = row[len(paired)] + part_of(web, step)
+        found.append(row)
+    return (paired, found)
+
+
+def cleared(rows):
+    """The determinant of the coefficients of the rows, and the rows cleared by it.
+
+    Cleared rows have the determinant at their own place and 0 at all other ones, if it is not 0. All
+    numbers stay integers, since each division by the place cleared before comes out even.
+    """
+    rows = [list(row) for row in rows]
+    size = len(rows)
+    before = 1
+    sign = 1
+    for place in range(size):
+        found = [at for at in range(place, size) if rows[at][place] != 0]
+        if not found:
+            return (0, rows)
+        if found[0] != place:
+            sign = -sign
+            rows[place], rows[found[0]] = rows[found[0]], rows[place]
+        head = rows[place]
+        lead = head[place]
+        for at in range(size):
+            if at != place:
+                other = rows[at][place]
+                rows[at] = [(lead * part - other * head[spot]) // before for spot, part in enumerate(rows[at])]
+        before = lead
+    return (sign * before, rows)
+
+
+def determinant(web, pairs):
+    """The determinant of the equations of the pairs."""
+    check_pairs(web, pairs)
+    _, rows = equations(web, pairs)
+    return cleared(rows)[0]
+
+
+def solved(web, pairs):
+    """The share row that solves the equations of the pairs."""
+    check_pairs(web, pairs)
+    paired, rows = equations(web, pairs)
+    found, rows = cleared(rows)
+    if found == 0:
+        raise WrongWeb("the equations have no single solution")
+    shares = [Share(part_of(web, stand)) for stand in range(web.size)]
+    for place, stand in enumerate(paired):
+        shares[stand] = Share(rows[place][len(paired)], rows[place][place])
+    return tuple(shares)
