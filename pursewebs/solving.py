@@ -74,25 +74,23 @@ def cleared(rows):
     Cleared rows have the determinant at their own place and 0 at all other ones, if it is not 0. All
     numbers stay integers, since each division by the place cleared before comes out even.
     """
-    rows = [list(row) for row in rows]
-    size = len(rows)
     before = 1
-    sign = 1
+    size = len(rows)
     for place in range(size):
-        found = [at for at in range(place, size) if rows[at][place] != 0]
-        if not found:
-            return (0, rows)
-        if found[0] != place:
-            sign = -sign
-            rows[place], rows[found[0]] = rows[found[0]], rows[place]
         head = rows[place]
         lead = head[place]
-        for at in range(size):
-            if at != place:
-                other = rows[at][place]
-                rows[at] = [(lead * part - other * head[spot]) // before for spot, part in enumerate(rows[at])]
+        # No coefficient beside its own place is above 0 and no row has a sum below 0, and clearing keeps this.
+        # So a row with 0 at its own place has 0 at all places not yet cleared: no exchange of rows could help.
+        if lead == 0:
+            return (0, rows)
+        rows = [row if at == place else row_cleared(row, head, place, before) for at, row in enumerate(rows)]
         before = lead
-    return (sign * before, rows)
+    return (before, rows)
+
+
+def row_cleared(row, head, place, before):
+    """The row without its coefficient at this place, by the row head that has its own place there."""
+    return [(head[place] * number - row[place] * head[at]) // before for at, number in enumerate(row)]
 
 
 def determinant(web, pairs):
