@@ -76,7 +76,6 @@ def bank_price(web, rows, row, b, stand):
     check_bank_kinds(rows)
     check_bank_row_kind(row)
     check_whole(b, stand)
-    check_least(b, 0)
     check_size(rows, b)
     for told in (*rows, row):
         check_bank_row(web, told)

@@ -32,11 +32,6 @@ def check_throws(web, throws):
     """Raise what is wrong with a web and a number of throws."""
     check_web(web)
     check_whole(throws)
-    check_throw_range(throws)
-
-
-def check_throw_range(throws):
-    """Raise what is wrong with an integer as a number of throws."""
     check_least(throws, 0)
     check_most(throws, MOST_THROWS)
 
@@ -102,5 +97,4 @@ def chance(web, stand, throws):
     check_web(web)
     check_whole(stand, throws)
     check_stand(web, stand)
-    check_throw_range(throws)
     return 1 - throw_rows(web, throws)[throws][stand]

@@ -9,22 +9,15 @@ from pursewebs.whole import check_whole
 
 def far_paper(table, k):
     """The paper of the row and the ranks that the table tells at k."""
-    check_far_call(table, k)
+    check_is_table(table)
     return Paper(table.web, k, table[k], table.told_ranks(k))
 
 
 def far_plans(table, k):
     """The plans of both hands of the row that the table tells at k."""
-    check_far_call(table, k)
+    check_is_table(table)
     row = table[k]
     return (FirstPlan(table.web, k, row, table.told_ranks(k)), SecondPlan(table.web, k, row))
-
-
-def check_far_call(table, k):
-    """Raise what is wrong with a table and a k."""
-    check_is_table(table)
-    check_whole(k)
-    check_far(k)
 
 
 def far_against(table, stand, other):

@@ -33,4 +33,4 @@ def joined_lower(web, k, rows):
         if lower_breaks(web, k, row):
             raise WrongNumber("a row is not lower")
     check_most(k, GREATEST)
-    return tuple([max([row[stand] for row in rows]) for stand in range(web.size)])
+    return tuple([max([told[stand] for told in rows]) for stand in range(web.size)])

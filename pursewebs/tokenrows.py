@@ -109,7 +109,8 @@ def token_fallen(web, k, row):
         done += 1
         for stand, more in lost:
             extra[stand] = more
-            if more <= 1 and ranks[stand][0] is None:
+            # Whatever is lost of 2 leaves at most 1.
+            if ranks[stand][0] is None:
                 ranks[stand][0] = done
             if more == 0:
                 ranks[stand][1] = done

@@ -100,7 +100,11 @@ def pair_lists(size, many, seed):
 
 class Equations(Refusals):
     def test_used_steps_by_words(self):
-        for web in webs() + six_webs()[::5]:
+        # At its stand 3 no step of those with the least share has a lower rank, and two of them have that share.
+        first, second = [[1, 3], [], [], [0, 2, 3, 4], [0, 1, 2]], [[1, 2, 3, 4], [], [], [1, 2, 3, 4], [0, 1, 2]]
+        equal = Web(first, second, [2, 2, 1, 2, 1], [None, ("chips", 0), None, None, None])
+        self.assertEqual(used_steps(equal, share_row(equal)), ((1, 2), None, None, (0, 2), (1, 2)))
+        for web in webs() + six_webs()[::5] + [equal]:
             row = share_row(web)
             found = used_steps(web, list(row))
             self.assertEqual(found, plain_shares.used(web, plain_shares.fractions(row)))
@@ -267,6 +271,8 @@ class Lines(Refusals):
         self.refused(TooMuch, row_number, 41, 2, 819, 41)
         self.refused(WrongNumber, row_number, 41, 2, 818, 41)
         self.refused(WrongNumber, row_number, 10 ** 50, 2, 10 ** 60, 1)
+        for mark in (1, 2):
+            self.refused(WrongNumber, row_number, 0, mark, 9, 0)
 
     def test_refusals(self):
         bounds = NO_INTEGERS + numbers(-1, -(10 ** 50))

@@ -26,6 +26,16 @@ def webs():
         Web.line(3), Web.line(3, 2), Web.ring(2), WEB]
 
 
+def split_webs():
+    """Webs in which the hands are far apart, or each hand has to move where the other one wants to be."""
+    ends = [("chips", 0), None]
+    crossed = [Web([[], [], [1]], [[], [], [0]], [1, 1, mark], ends + [None]) for mark in (1, 2)]
+    ways = [[], [], [0, 3], [1, 2]]
+    chips = [("chips", 3), ("less", 1)]
+    return crossed + [Web([[], [], [1], [0, 2]], [[], [], [0, 3], [2]], [1, 1, mark, 3 - mark], chips + [None] * 2)
+                      for mark in (1, 2)] + [Web(ways, ways, [mark] * 4, ends + [None] * 2) for mark in (1, 2)]
+
+
 def owner(row, state):
     return 1 if state[1] >= row[state[0]] else 2
 
@@ -51,9 +61,10 @@ def plain_kind(web, k, row, v, a, hand, bid, step):
 class Slips(Refusals):
     def test_kinds_by_words(self):
         seen = {}
-        for at, web in enumerate(webs()):
-            k = at % 4
-            row = plain.numbers(web, k)
+        cases = [(web, at % 4, plain.numbers(web, at % 4)) for at, web in enumerate(webs())]
+        cases += [(web, k, plain_tables.number_row(web, k)) for k in range(7, 10)
+                  for web in webs()[k % 5::5] + split_webs()]
+        for web, k, row in cases:
             for v, a in plain.states(web, k):
                 if v not in web.moving:
                     continue
@@ -131,8 +142,8 @@ class Slips(Refusals):
         steps = NO_INTEGERS + [(0, "g"), (3, "g"), (-1, "g"), (10 ** 50, "g")]
         self.each_fault(slip_kind, good, [
             NO_WEBS, NO_INTEGERS + numbers(-1) + too_much(5001, 10 ** 50), STANDS + [(0, "d"), (1, "d")],
-            NO_INTEGERS + numbers(-1, 5002, 10 ** 51), NO_INTEGERS + numbers(0, 3, -1), NO_INTEGERS + numbers(-1, 10 ** 60),
-            steps])
+            NO_INTEGERS + numbers(-1, 5002, 10 ** 51), NO_INTEGERS + numbers(0, 3, -1),
+            NO_INTEGERS + numbers(-1, 10 ** 60), steps])
         self.refused(WrongNumber, slip_kind, WEB, 3, 3, 2, 2, 2, 1)
         self.refused(WrongNumber, slip_kind, WEB, 3, 3, 2, 1, 3, 1)
         self.refused(WrongDeed, slip_kind, WEB, 3, 3, 2, 1, 0, 1)

@@ -121,6 +121,9 @@ class Objects(Refusals):
         webs = NO_WEBS + [(with_due(LINE, 1, ("less", 10)), "f")]
         self.each_fault(Table, GOOD, [webs, NO_INTEGERS + numbers(-1, 0, 2, 10 ** 50),
                                       NO_INTEGERS + numbers(0, -1, 1, 3, 10 ** 50), slopes, rows, ranks])
+        # The number of rows fits these starts and periods, but they are out of their ranges.
+        for start, period in ((-1, 4), (3, 0), (4, -1), (-2, 5)):
+            self.refused(WrongNumber, Table, LINE, start, period, [0, 0, 0], GOOD[4], GOOD[5])
         table = made(1, 2, [0, 2, 1], [[0, 0, 1], [0, 1, 2], [1, 0, 3]], [[0, 1, 10 ** 60]] * 3)
         self.assertEqual((table.slopes, table.ranks[0][2]), ((0, 2, 1), 10 ** 60))
 

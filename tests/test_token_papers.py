@@ -124,6 +124,10 @@ class Papers(Refusals):
             self.each_fault(call, good, [NO_WEBS + UNEVEN, BOUNDS, rows])
         self.each_fault(token_upper, good + [[[0, 0], (1, 3), [0, 2], [0, 10 ** 50]]],
                         [NO_WEBS + UNEVEN, BOUNDS, rows, RANKS])
+        for call in (token_lower, token_falling):
+            self.refused(WrongNumber, call, LINE, -1, [0] * 4)
+        for call in (token_upper, TokenPlan):
+            self.refused(WrongNumber, call, LINE, -1, [0] * 4, [(0, 0)] * 4)
 
 
 RANKS = NO_LISTS + [([(0, 0), (0, 0), (0, 0), bad], "a") for bad, _ in NO_ROWS] + [
@@ -199,7 +203,16 @@ class Plans(Refusals):
 
 
 def table_webs():
-    return webs(40, (1, 2, 3, 4, 5)) + [even(web) for web in six_webs()[::10]]
+    return webs(40, (1, 2, 3, 4, 5)) + [even(web) for web in six_webs()[::10]] + late_webs()
+
+
+def late_webs():
+    """Webs whose least start hangs on how far the steps with the least and the greatest slope are from the others."""
+    told = [([[], [], [], [0, 1, 2, 3]], [("less", 1), ("chips", 0), None, None]),
+            ([[0, 1, 2, 3], [], [], []], [None, ("chips", 0), ("chips", 1), None]),
+            ([[], [1, 2, 3], [], [0, 1, 2, 3]], [("chips", 1), None, ("less", 4), None]),
+            ([[], [1, 2, 3], [0, 1, 2, 3], []], [None, None, None, ("chips", 0)])]
+    return [Web(ways, ways, [1, 2, 2, 1], dues) for ways, dues in told]
 
 
 def is_small(web):
@@ -219,6 +232,9 @@ class Tables(Refusals):
             found = [(begin, many) for begin in range(start + 1) for many in range(1, period + 1)
                      if plain_token.is_table(web, begin, many, rows)]
             self.assertEqual(found, [(start, period)])
+
+    def test_late_starts(self):
+        self.assertEqual([token_table(web)[0] for web in late_webs()], [1, 1, 8, 3])
 
     def test_the_table_of_the_numbers(self):
         """[119]: the same period and twice the slopes."""
@@ -283,6 +299,9 @@ class Tables(Refusals):
         wrong = NO_LISTS + [([], "a"), (good[:3], "a"), (good + [0], "a"), (good * 2, "a")] + changed
         self.each_fault(token_told, [LINE, good, GREAT], [NO_WEBS + UNEVEN, wrong, BOUNDS])
         self.refused(WrongNumber, token_told, LINE, [0, 1, [0] * 4, [[0, 0, 0, 3]]], 0)
+        # The number of rows fits these starts and periods, but they are out of their ranges.
+        for start, period in ((-1, 3), (2, 0), (3, -1), (-2, 4)):
+            self.refused(WrongNumber, token_told, LINE, [start, period, good[2], rows], 0)
         self.assertEqual(token_told(LINE, (0, 1, (0,) * 4, ((0, 0, 0, 2),)), 0), (0, 0, 0, 2))
 
 

@@ -4,7 +4,7 @@ import unittest
 from itertools import islice
 
 from pursewebs.builders import chain, with_due, with_marks
-from pursewebs.errors import TooMuch, WrongDeed, WrongKind, WrongWeb
+from pursewebs.errors import TooMuch, WrongDeed, WrongKind, WrongNumber, WrongWeb
 from pursewebs.rounds import number_row
 from pursewebs.tokenbids import token_first, token_second, token_serves
 from pursewebs.tokenlisting import token_won
@@ -231,6 +231,13 @@ class Bids(Refusals):
         self.each_fault(token_serves, [LINE, 200, [0, 1, 3, 8], 1, 301, 1, 150, True],
                         [NO_WEBS + UNEVEN, chips, rows, MOVING, NO_INTEGERS + numbers(-1, 404),
                          NO_INTEGERS + numbers(0, 3), NO_INTEGERS + numbers(-1, 201), no_bools])
+
+    def test_bids_that_a_hand_just_has(self):
+        row = [0, 1, 3, 8]
+        for h in range(10):
+            for side, chips in ((1, h // 2), (2, 4 - h // 2)):
+                self.assertIsInstance(token_serves(LINE, 4, row, 1, h, side, chips, False), bool)
+                self.refused(WrongNumber, token_serves, LINE, 4, row, 1, h, side, chips + 1, False)
 
     def test_the_token_that_a_hand_does_not_hold(self):
         row = [0, 1, 3, 4]
