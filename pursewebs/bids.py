@@ -26,6 +26,18 @@ def least_with(steps, row, part):
     return min([step for step in steps if row[step] == part])
 
 
+def least_lower(steps, ranks, rank):
+    """The least of the steps of a rank below this one, the least of them if there is none."""
+    lower = [step for step in steps if ranks[step] < rank]
+    return min(lower) if lower else min(steps)
+
+
+def lowest_step(web, row, ranks, stand, rank):
+    """The least of the first steps with the least part of the row, one of a rank below this one if it can be."""
+    least = low_of(web, row, stand)
+    return least_lower([step for step in web.first[stand] if row[step] == least], ranks, rank)
+
+
 def check_bid(web, k, row, stand, purse):
     """Raise what is wrong with the arguments of first_bid and second_bid."""
     check_row_state(web, k, row, stand, purse)

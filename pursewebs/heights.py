@@ -67,13 +67,17 @@ class Heights:
         """The stands at which the row is below the row most, as bits."""
         return bits_of([stand for stand, part in enumerate(self._row) if part < most[stand]])
 
-    def leaving(self, left):
+    def rising(self, asked, raised):
+        """Those of the asked stands whose price, with the raised ones greater by 1, is above the row, as bits."""
+        return asked & ~self._leavers(raised, asked)
+
+    def leaving(self, left, lifted=0):
         """The stands that leave in the rounds 1, 2, .. of falling out, each time as bits.
 
-        left are the stands left over at first.
+        left are the stands left over at first. The lifted stands are greater by 1 in each round as well.
         """
         found = []
-        gone = self._leavers(left, left)
+        gone = self._leavers(left | lifted, left)
         while gone:
             found.append(gone)
             left = left & ~gone
@@ -81,23 +85,33 @@ class Heights:
             asked = 0
             for stand in stands_of(gone):
                 asked = asked | self._before[stand]
-            gone = self._leavers(left, left & asked)
+            gone = self._leavers(left | lifted, left & asked)
         return found
 
-    def _leavers(self, left, asked):
-        """Those of the asked stands whose price, with left raised by 1, is not above the row."""
+    def staying(self, left, lifted):
+        """Those of the stands left over at first that never leave, as bits."""
+        for gone in self.leaving(left, lifted):
+            left = left & ~gone
+        return left
+
+    def price(self, stand):
+        """The price of a stand with steps at the row."""
+        return half_of(self._marks[stand], self._lows[stand], self._highs[stand])
+
+    def _leavers(self, raised, asked):
+        """Those of the asked stands whose price, with the raised ones greater by 1, is not above the row."""
         gone = 0
         for stand in self._moving:
-            if asked >> stand & 1 and self._raised_price(stand, left) <= self._row[stand]:
+            if asked >> stand & 1 and self._raised_price(stand, raised) <= self._row[stand]:
                 gone = gone | 1 << stand
         return gone
 
-    def _raised_price(self, stand, left):
-        """The price of a stand with steps at the row that is greater by 1 at the stands left."""
+    def _raised_price(self, stand, raised):
+        """The price of a stand with steps at the row that is greater by 1 at the raised stands."""
         low = self._lows[stand]
-        if not self._low_stands[stand] & ~left:
+        if not self._low_stands[stand] & ~raised:
             low += 1
         high = self._highs[stand]
-        if self._high_stands[stand] & left:
+        if self._high_stands[stand] & raised:
             high += 1
         return half_of(self._marks[stand], low, high)

@@ -1,10 +1,9 @@
 """Plans: what a hand does at each state, without a memory."""
 
-from pursewebs.bids import told_first, told_second
+from pursewebs.bids import lowest_step, told_first, told_second
 from pursewebs.checks import check_moving, check_row_at, check_state_range
 from pursewebs.dues import due_at
 from pursewebs.errors import WrongDeed
-from pursewebs.prices import low_of
 from pursewebs.upper import check_ranked, raised_from
 from pursewebs.web import check_web
 from pursewebs.whole import GREATEST, check_least, check_most, check_size, check_whole, whole_list
@@ -71,14 +70,7 @@ class FirstPlan(Plan):
             return (0, self._web.first[stand][0])
         raised = [part + extra for part in raised_from(self._row, self._ranks, rank)]
         bid, _ = told_first(self._web, raised, stand, purse)
-        return (min(bid, purse), self._step(stand, rank))
-
-    def _step(self, stand, rank):
-        """The least of the first steps with the least part of the row, if it can be one of a lower rank."""
-        low = low_of(self._web, self._row, stand)
-        steps = [step for step in self._web.first[stand] if self._row[step] == low]
-        lower = [step for step in steps if self._ranks[step] < rank]
-        return min(lower) if lower else min(steps)
+        return (min(bid, purse), lowest_step(self._web, self._row, self._ranks, stand, rank))
 
     def claims(self, stand, purse):
         """True if the plan claims at the state."""

@@ -25,10 +25,7 @@ def rise(web, k, row):
 
 def lift_once(web, k, heights):
     """Make the number row at k-1, or the row of zeros for k = 0, the number row at k."""
-    risen = heights.below(dues_at(web, k))
-    for gone in heights.leaving(risen):
-        risen = risen & ~gone
-    heights.lift(risen)
+    heights.lift(heights.staying(heights.below(dues_at(web, k)), 0))
 
 
 def chip_rows(web):

@@ -1,5 +1,6 @@
 """Equations between the shares of stands: used steps, the determinant and the solution."""
 
+from pursewebs.bids import least_lower
 from pursewebs.checks import check_list, check_stand
 from pursewebs.errors import WrongNumber, WrongWeb
 from pursewebs.share import Share
@@ -9,20 +10,14 @@ from pursewebs.web import check_web
 from pursewebs.whole import check_size, whole_list
 
 
-def picked(steps, ranks, rank):
-    """The least of the steps of a rank below this one, the least of them if there is none."""
-    lower = [step for step in steps if ranks[step] < rank]
-    return min(lower) if lower else min(steps)
-
-
 def used_by(web, shares, ranks, stand):
     """The two used steps of the stand, None at rank 0."""
     rank = ranks[stand]
     if rank == 0:
         return None
     order, firsts, seconds = told_steps(web, shares, stand)
-    first = picked(firsts, ranks, rank)
-    second = picked(seconds, ranks, rank)
+    first = least_lower(firsts, ranks, rank)
+    second = least_lower(seconds, ranks, rank)
     if order < 0:
         return (first, second)
     if web.marks[stand] == 1 or (order == 0 and ranks[first] < rank):

@@ -56,6 +56,18 @@ tokenbids: token_serves(web,k,row,stand,half_chips,side,bid,takes)
 tokenpaper: token_lower(web,k,row) token_upper(web,k,row,ranks) token_falling(web,k,row)
 tokentable: token_table(web) token_told(web,found,k)
 bankrows: bank_due(due) bank_price(web,rows,row,b,stand) bank_rounds(web,rows) bank_rows(web,most)
+banklisting: bank_won(web,most_a,most_b,steps=None)
+bankpaper: bank_lower(web,table) bank_upper(web,table,ranks) bank_falling(web,table)
+bankplans: bank_first(web,table,stand,a,b) bank_second(web,table,stand,a,b) bank_serves(web,table,stand,a,b,side,bid)
+golden: whole_root(number) golden_number(mark,b,stand) repeats_until(start,period,rise)
+bankmeet: hand_against(web,stand,b,most) bank_against(web,stand,b) dearer(web,stand,b,most)
+visits: round_row(web,k,calls,row) visit_rows(web,k,calls) visits_needed(web,k,calls,times)
+forever: forever_row(web,k,calls) forever_rows(web,calls) forever_rise(web,k,calls,row)
+callranks: call_ranks(web,k,calls,row) call_counts(web,k,calls,row)
+callpaper: half_above(web,k,calls,row,ranks) half_below(web,k,calls,row,counts)
+callplans: call_duel(web,k,calls,stand,purse,most)
+calllisting: call_won(web,k,calls,times=None)
+settle: settle_row(web,k,calls)
 """
 METHODS = """
 share.Share(top,bottom=1): halved() compared(other) __add__(other) __radd__(other) __sub__(other) __rsub__(other)
@@ -71,6 +83,10 @@ table.Table(web,start,period,slopes,rows,ranks): least(web) __getitem__(at) told
 table.Table(web,start,period,slopes,rows,ranks): judged() from_text(web,written) __eq__(other)
 tokenpaper.TokenPlan(web,k,row,ranks): __call__(stand,half_chips) spare(stand,half_chips) claims(stand,half_chips)
 tokenpaper.TokenPlan(web,k,row,ranks): falls(stand,half_chips)
+bankplans.BankPlan(web,table,ranks): __call__(stand,a,b) claims(stand,a,b) falls(stand,a,b)
+callpaper.CallPaper(web,k,calls,row,ranks,counts): __eq__(other) of(web,k,calls) judged()
+callplans.CallFirst(paper): __call__(stand,purse) due_by(times) falls(stand,purse)
+callplans.CallSecond(paper): __call__(stand,purse) visits_at_most() falls(stand,purse)
 """
 PROPERTIES = """
 share.Share: top bottom
@@ -82,6 +98,8 @@ plans.FirstPlan: ranks
 play.Play: web chips stand purse steps moves claimed over winner
 table.Table: web start period slopes rows ranks
 tokenpaper.TokenPlan: web chips row ranks
+bankplans.BankPlan: web rows ranks
+callpaper.CallPaper: web chips calls row ranks counts
 """
 
 

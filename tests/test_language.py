@@ -10,7 +10,7 @@ import re
 import unittest
 
 FOLDER = os.path.join(os.path.dirname(os.path.dirname(os.path.abspath(__file__))), "pursewebs")
-LIBRARY = {"math": {"gcd", "lcm"}}
+LIBRARY = {"math": {"gcd", "isqrt", "lcm"}}
 BUILTINS = set("""len range enumerate zip min max sum abs sorted reversed int str bool list tuple dict set isinstance ord
     repr any all divmod iter Exception ValueError TypeError KeyError NotImplemented""".split())
 METHODS = set("""append clear copy count endswith extend find get index insert isdigit items join keys ljust lower
