@@ -44,3 +44,14 @@ def numbers_at(web, k):
     for chips in range(k + 1):
         lift_once(web, chips, heights)
     return heights.told()
+
+
+def numbers_above(web, k, row):
+    """The number row at k, found from a lower row: its rest rises until there is none."""
+    heights = Heights(web, row)
+    dues = dues_at(web, k)
+    risen = heights.staying(heights.below(dues), 0)
+    while risen:
+        heights.lift(risen)
+        risen = heights.staying(heights.below(dues), 0)
+    return heights.told()

@@ -17,7 +17,7 @@ def examples():
 class Examples(unittest.TestCase):
     def test_each(self):
         blocks = examples()
-        self.assertEqual(len(blocks), 43)
+        self.assertEqual(len(blocks), 53)
         for name, *lines in blocks:
             with self.subTest(module=name, lines=lines):
                 self.check(lines)

@@ -4,10 +4,14 @@ import importlib
 import inspect
 import unittest
 
+from pursewebs.bankplans import BankPlan
+from pursewebs.callplans import CallFirst, CallSecond
 from pursewebs.errors import PurseError
 from pursewebs.plans import FirstPlan, Plan, SecondPlan
+from pursewebs.rules import BankRule, HandRule, Rule, TokenRule, TurnsRule
 from pursewebs.tokenpaper import TokenPlan
 from pursewebs.web import Web
+from pursewebs.worthplans import HoldPlan, WorthPlan
 
 CALLS = """
 whole: is_integer(thing) as_row(thing,size) as_stands(thing,size)
@@ -68,6 +72,17 @@ callpaper: half_above(web,k,calls,row,ranks) half_below(web,k,calls,row,counts)
 callplans: call_duel(web,k,calls,stand,purse,most)
 calllisting: call_won(web,k,calls,times=None)
 settle: settle_row(web,k,calls)
+joins: joined(web,*links) offsets(web,*links) copies(web,end,entry,times) layers(web,calls,times)
+boards: both_boards(web,other,mark,goal)
+cutting: cut_at(web,k,stand) cut_change(web,k,stand,change) parts(web,k,cut)
+worths: level_web(web,worths,level) level_rows(web,k,worths) value(web,k,worths,stand,purse) stairs(web,k,worths,stand)
+worths: value_listing(web,k,worths)
+worthplans: worth_duel(web,k,worths,stand,purse) level_tables(web,worths) far_value(tables,k,stand,purse)
+rules: rule_named(word)
+trial: what_if(desk,deeds,question)
+show: number_table(web,k) share_table(web) play_table(play)
+advice: reasons(web,k,stand,purse) hint(web,k,stand,purse,hand,bid)
+desktext: desk_written(desk) desk_from_text(written)
 """
 METHODS = """
 share.Share(top,bottom=1): halved() compared(other) __add__(other) __radd__(other) __sub__(other) __rsub__(other)
@@ -87,6 +102,20 @@ bankplans.BankPlan(web,table,ranks): __call__(stand,a,b) claims(stand,a,b) falls
 callpaper.CallPaper(web,k,calls,row,ranks,counts): __eq__(other) of(web,k,calls) judged()
 callplans.CallFirst(paper): __call__(stand,purse) due_by(times) falls(stand,purse)
 callplans.CallSecond(paper): __call__(stand,purse) visits_at_most() falls(stand,purse)
+calltable.CallTable(web,calls,start,period,slopes,rows,ranks,counts): __eq__(other) least(web,calls) __getitem__(at)
+calltable.CallTable(web,calls,start,period,slopes,rows,ranks,counts): told(k) share(stand) judged()
+worthplans.WorthPlan(web,k,worths,level): __init__(web,k,worths,level)
+worthplans.HoldPlan(web,k,worths,level): __init__(web,k,worths,level)
+rules.Rule(): __eq__(other) numbers(web,k) advice(web,k,stand,purse)
+rules.HandRule(): fits(web) greatest_purse(k) numbers(web,k) told(web,k,stand,purse) advice(web,k,stand,purse)
+rules.TurnsRule(): fits(web) greatest_purse(k) numbers(web,k) told(web,k,stand,purse) advice(web,k,stand,purse)
+rules.TokenRule(): fits(web) greatest_purse(k) numbers(web,k) told(web,k,stand,purse) advice(web,k,stand,purse)
+rules.BankRule(): fits(web) greatest_purse(k) numbers(web,k) told(web,k,stand,purse) advice(web,k,stand,purse)
+desk.Desk(web,k,stand,purse,*,rule=None): bid(p,q,step) claim() chips_in(count,hand) chips_out(count,hand)
+desk.Desk(web,k,stand,purse,*,rule=None): set_due(stand,due) set_mark(stand,mark) set_rule(rule) place(stand,purse)
+desk.Desk(web,k,stand,purse,*,rule=None): back() numbers() whose() advice() number() slips() played() paper() table()
+desk.Desk(web,k,stand,purse,*,rule=None): steps_left() changed(**changes) copy()
+trial.Trial(desk): __enter__() __exit__(kind,value,trace)
 """
 PROPERTIES = """
 share.Share: top bottom
@@ -100,6 +129,13 @@ table.Table: web start period slopes rows ranks
 tokenpaper.TokenPlan: web chips row ranks
 bankplans.BankPlan: web rows ranks
 callpaper.CallPaper: web chips calls row ranks counts
+calltable.CallTable: web calls start period slopes rows ranks counts
+rules.Rule: word
+rules.HandRule: word
+rules.TurnsRule: word
+rules.TokenRule: word
+rules.BankRule: word
+desk.Desk: web chips stand purse rule log over winner
 """
 
 
@@ -147,8 +183,12 @@ class Interface(unittest.TestCase):
                 self.assertIsInstance(vars(made)[name], property, (path, name))
 
     def test_what_is_below_what(self):
-        for made in (FirstPlan, SecondPlan, TokenPlan):
+        for made in (FirstPlan, SecondPlan, TokenPlan, CallFirst, CallSecond):
             self.assertTrue(issubclass(made, Plan))
+        self.assertTrue(issubclass(WorthPlan, FirstPlan) and issubclass(HoldPlan, SecondPlan))
+        self.assertFalse(issubclass(BankPlan, Plan))
+        for made in (HandRule, TurnsRule, TokenRule, BankRule):
+            self.assertEqual(made.__bases__, (Rule,))
         errors = [own("errors", name) for name in
                   ("WrongKind", "WrongNumber", "WrongWeb", "WrongText", "WrongDeed", "TooMuch")]
         for one in errors:

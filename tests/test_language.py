@@ -24,9 +24,9 @@ BARRED_WORDS = re.compile(r"\b(type|typing|typing_extensions|enum|Enum|IntEnum|S
                           r"ABCMeta|namedtuple|NamedTuple|TypedDict|TYPE_CHECKING|abstractmethod)\b|dataclass|overload|"
                           r"contextmanager|_wall|_WallAttr")
 SPECIAL = set("""__init__ __eq__ __str__ __bool__ __iter__ __call__ __add__ __radd__ __sub__ __rsub__ __mul__ __rmul__
-    __invert__ __getitem__""".split())
+    __invert__ __getitem__ __enter__ __exit__""".split())
 STATEMENTS = (ast.Assign, ast.AugAssign, ast.If, ast.While, ast.For, ast.Return, ast.Break, ast.Continue, ast.Pass,
-              ast.Raise, ast.Assert, ast.Delete, ast.Try, ast.Expr, ast.FunctionDef, ast.ClassDef, ast.ImportFrom)
+              ast.Raise, ast.Assert, ast.Delete, ast.Try, ast.Expr, ast.FunctionDef, ast.ClassDef, ast.ImportFrom, ast.With)
 EXPRESSIONS = (ast.Lambda, ast.GeneratorExp, ast.Await, ast.NamedExpr, ast.Div, ast.MatMult, ast.Set, ast.SetComp)
 
 
@@ -177,6 +177,25 @@ class Language(unittest.TestCase):
                 if word == "set":
                     self.assertIn("sorted(set(", ast.get_source_segment(self.texts[name], parent(tree, node)))
 
+    def test_properties_methods_and_attributes_have_names_of_their_own(self):
+        properties, methods, attributes = set(), set(), set()
+        for name, tree in self.trees.items():
+            for node in named(tree, ast.ClassDef):
+                for part in node.body:
+                    if isinstance(part, ast.FunctionDef):
+                        marks = [mark.id for mark in part.decorator_list]
+                        (properties if "property" in marks else methods).add(part.name)
+            attributes |= {node.attr for node in named(tree, ast.Attribute) if isinstance(node.ctx, ast.Store)}
+        self.assertEqual((properties & methods, properties & attributes, methods & attributes), (set(), set(), set()))
+        self.assertFalse(properties & METHODS)
+        read = {node.attr for tree in self.trees.values() for node in named(tree, ast.Attribute)}
+        self.assertLessEqual(read, properties | methods | attributes | METHODS)
+
+    def test_generators_have_names_of_their_own(self):
+        defined_names = [node.name for tree in self.trees.values() for node in named(tree, ast.FunctionDef)]
+        for name in self.generators:
+            self.assertEqual(defined_names.count(name), 1, name)
+
     def test_what_is_indexed_is_not_iterated_over(self):
         for name, tree in self.each():
             for node in named(tree, ast.ClassDef):
@@ -184,6 +203,19 @@ class Language(unittest.TestCase):
                 self.assertNotIn("keys", methods)
                 if "__getitem__" in methods:
                     self.assertEqual(ast.unparse(methods["__iter__"].body[0])[:16], "raise TypeError(", node.name)
+
+    def test_what_ends_a_block(self):
+        """The rows of __exit__ only assign attributes to names and attributes."""
+        for name, tree in self.each():
+            for node in named(tree, ast.FunctionDef):
+                if node.name == "__exit__":
+                    self.assertEqual([arg.arg for arg in node.args.args], ["self", "kind", "value", "trace"])
+                    for row in node.body:
+                        self.assertIsInstance(row, ast.Assign)
+                        self.assertIsInstance(row.targets[0], (ast.Name, ast.Attribute))
+                        self.assertIsInstance(row.value, ast.Attribute)
+            for node in named(tree, ast.With):
+                self.assertIsInstance(node.items[0].context_expr, ast.Call)
 
     def test_raised_errors_are_made_on_the_spot(self):
         own = {node.name for node in named(self.trees["errors"], ast.ClassDef)}
