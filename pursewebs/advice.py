@@ -35,5 +35,5 @@ def hint(web, k, stand, purse, hand, bid):
     if bid_serves(web, row, stand, purse, hand, bid):
         return ("serves", None)
     if hand == 1:
-        return ("costs", reply_to_first(web, k, row, stand, purse, bid))
+        return ("costs", reply_to_first(web, row, stand, purse, bid))
     return ("costs", reply_to_second(web, row, stand, purse, bid))

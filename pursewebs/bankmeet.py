@@ -1,12 +1,10 @@
 """The purse that wins when bids go to the other hand beside the one that wins when they go to a bank."""
 
 from pursewebs.against import purse_against
-from pursewebs.bankrows import MOST_CHIPS, MOST_DUE, bank_rows
+from pursewebs.bankrows import bank_rows
 from pursewebs.checks import check_stand
 from pursewebs.web import check_web
-from pursewebs.whole import check_least, check_most, check_whole
-
-MOST_PURSE = 2000
+from pursewebs.whole import check_least, check_whole
 
 
 def hand_against(web, stand, b, most):
@@ -19,9 +17,6 @@ def bank_against(web, stand, b):
     check_web(web)
     check_whole(stand, b)
     check_stand(web, stand)
-    check_least(b, 0)
-    check_most(b, MOST_CHIPS)
-    check_most(web.greatest_due, MOST_DUE)
     return bank_rows(web, b)[b][stand]
 
 
@@ -30,13 +25,9 @@ def dearer(web, stand, b, most):
     check_web(web)
     check_whole(stand, b, most)
     check_stand(web, stand)
-    check_least(b, 0)
     check_least(most, 0)
-    check_most(b, MOST_CHIPS)
-    check_most(most, MOST_PURSE)
-    check_most(web.greatest_due, MOST_DUE)
-    by_hand = purse_against(web, stand, b, most)
     by_bank = bank_rows(web, b)[b][stand]
+    by_hand = purse_against(web, stand, b, most)
     if by_hand == by_bank:
         return "same"
     if by_bank is None or (by_hand is not None and by_hand < by_bank):

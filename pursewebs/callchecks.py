@@ -37,6 +37,5 @@ def checked_row_calls(web, k, calls, row, extra, most):
     """The same with a row of parts in 0 .. k + extra as well."""
     whole_list(row)
     check_call_kinds(web, k, calls)
-    check_least(k, 0)
     check_part_range(row, web.size, k + extra)
     return checked_calls(web, k, calls, most)

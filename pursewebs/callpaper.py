@@ -2,13 +2,13 @@
 
 from pursewebs.callchecks import check_call_kinds, checked_calls, checked_row_calls
 from pursewebs.callranks import counts_for_ever, ranks_of
-from pursewebs.checks import check_floor, check_part_range
+from pursewebs.checks import check_floor
 from pursewebs.forever import row_for_ever
 from pursewebs.prices import dues_at, price_of
 from pursewebs.upper import raised_from
 from pursewebs.verdict import Verdict
 from pursewebs.visits import MOST_CHIPS
-from pursewebs.whole import GREATEST, check_least, whole_list
+from pursewebs.whole import GREATEST, whole_list
 
 
 def checked_half(web, k, calls, row, *numbers):
@@ -16,8 +16,6 @@ def checked_half(web, k, calls, row, *numbers):
     check_call_kinds(web, k, calls)
     for told in (row, *numbers):
         whole_list(told)
-    check_least(k, 0)
-    check_part_range(row, web.size, k + 1)
     for told in numbers:
         check_floor(told, web.size)
     return checked_row_calls(web, k, calls, row, 1, GREATEST)

@@ -55,10 +55,9 @@ def count_leavers(web, k, calls, row, left):
 
 
 def counts_for_ever(web, calls, row):
-    """The counts of a row for ever, whose lowered rows have rounds that are nowhere lower by more than 1."""
+    """The counts of a row for ever, for which no round needs to be found anew."""
     left = bits_of(above_zero(web, row))
-    heights = CallHeights(web, calls, [part - 1 for part in row])
-    return numbered(web.size, left, heights.counted(left))
+    return numbered(web.size, left, CallHeights(web, calls, row).counted(left))
 
 
 def call_ranks(web, k, calls, row):

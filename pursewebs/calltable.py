@@ -25,7 +25,6 @@ def check_call_sizes(web):
 def checked_table_calls(web, calls, start, period, slopes, lists):
     """The set of the calls, after a look at all parts of a table; lists are its rows, ranks and counts."""
     check_web(web)
-    whole_list(calls)
     check_whole(start, period)
     whole_list(slopes)
     for rows in lists:
@@ -108,7 +107,6 @@ class CallTable:
     def least(cls, web, calls):
         """The least table for ever of the web with these calls."""
         check_web(web)
-        whole_list(calls)
         stands = called_stands(web, calls)
         check_calls_move(web, stands)
         check_call_sizes(web)

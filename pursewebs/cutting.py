@@ -4,7 +4,7 @@ from pursewebs.builders import ended
 from pursewebs.checks import check_moving, check_stand
 from pursewebs.rises import MOST_CHIPS, numbers_at
 from pursewebs.web import check_web
-from pursewebs.whole import GREATEST, as_stands, check_least, check_most, check_whole, whole_list
+from pursewebs.whole import as_stands, check_least, check_most, check_whole, whole_list
 
 
 def check_cut(web, k, stand):
@@ -27,9 +27,7 @@ def cut_change(web, k, stand, change):
     check_whole(change)
     check_cut(web, k, stand)
     row = numbers_at(web, k)
-    due = max(0, row[stand] + change)
-    check_most(due, GREATEST)
-    after = numbers_at(ended(web, stand, ("chips", due)), k)
+    after = numbers_at(ended(web, stand, ("chips", max(0, row[stand] + change))), k)
     return tuple([number - row[place] for place, number in enumerate(after)])
 
 

@@ -6,7 +6,6 @@ from pursewebs.heights import Heights, bits_of, stands_of
 from pursewebs.prices import dues_at
 from pursewebs.visits import MOST_CHIPS, free_stands
 from pursewebs.web import check_web
-from pursewebs.whole import whole_list
 
 MOST_ROW_CHIPS = 2000
 
@@ -54,7 +53,9 @@ class CallHeights:
     def counted(self, left):
         """The stands that leave in the rounds 1, 2, .. of finding counts, each time as bits.
 
-        The row is 1 less than a row for ever everywhere. left are the stands left over at first.
+        left are the stands left over at first. The row, a row for ever, stands here for the row that is 1 less
+        everywhere: only where parts differ counts, and the round of that row with 1 more at some stands is
+        nowhere below it and nowhere more than 1 above it.
         """
         every = self._called | self._free | self._ends
         found = []
@@ -93,7 +94,6 @@ def forever_row(web, k, calls):
 def forever_rows(web, calls):
     """The rows for ever at k = 0, 1, 2, .."""
     check_web(web)
-    whole_list(calls)
     stands = called_stands(web, calls)
     check_calls_move(web, stands)
     for k, row in enumerate(each_row_for_ever(web, stands)):

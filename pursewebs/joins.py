@@ -5,7 +5,7 @@ from pursewebs.checks import check_list, check_stand
 from pursewebs.errors import WrongKind, WrongWeb
 from pursewebs.web import Web, check_web
 from pursewebs.webparts import MOST_STANDS
-from pursewebs.whole import check_least, check_most, check_whole, whole_list
+from pursewebs.whole import check_least, check_most, check_whole
 
 
 def check_link(link):
@@ -109,7 +109,6 @@ def layer_ways(ways, size, layer, calls):
 def layers(web, calls, times):
     """The layers 0 .. times of the web, a layer for each number of visits that are still wanted."""
     check_web(web)
-    whole_list(calls)
     check_whole(times)
     stands = called_stands(web, calls)
     check_least(times, 0)

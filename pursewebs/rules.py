@@ -205,7 +205,6 @@ def check_rule_state(rule, web, k, stand, purse):
     check_web(web)
     check_whole(k, stand, purse)
     check_fits(rule, web)
-    check_least(k, 0)
     check_stand(web, stand)
     check_range(purse, 0, rule.greatest_purse(k))
 

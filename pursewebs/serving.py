@@ -81,16 +81,19 @@ def reply(web, k, row, stand, purse, p):
     check_range(p, 0, purse)
     check_moving(web, stand)
     check_most(k, MOST_CHIPS)
-    return reply_to_first(web, k, row, stand, purse, p)
+    return reply_to_first(web, row, stand, purse, p)
 
 
-def reply_to_first(web, k, row, stand, purse, p):
-    """The least bid that is good for the second hand beside p, None if there is none."""
+def reply_to_first(web, row, stand, purse, p):
+    """The least bid that is good for the second hand beside p, None if there is none.
+
+    Here and for the other hand no bid above its chips is good, since all parts of the row are in 0 .. k+1.
+    """
     mark = web.marks[stand]
     if bought(mark, purse, p, 0)[0] == 1 and purse - p < low_of(web, row, stand):
         return 0
     least = p + 1 if mark == 1 else p
-    if least <= k - purse and purse + least < high_of(web, row, stand):
+    if purse + least < high_of(web, row, stand):
         return least
     return None
 
@@ -101,6 +104,6 @@ def reply_to_second(web, row, stand, purse, q):
     if bought(mark, purse, 0, q)[0] == 2 and purse + q >= high_of(web, row, stand):
         return 0
     least = q if mark == 1 else q + 1
-    if least <= purse and purse - least >= low_of(web, row, stand):
+    if purse - least >= low_of(web, row, stand):
         return least
     return None

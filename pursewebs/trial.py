@@ -87,7 +87,6 @@ def answer(desk, question):
 
 def what_if(desk, deeds, question):
     """The answer to the question behind these deeds, which are not done for good."""
-    check_desk(desk)
     check_list(deeds)
     for deed in deeds:
         check_deed(deed)

@@ -92,7 +92,6 @@ def far_value(tables, k, stand, purse):
     """The greatest level whose table tells a number of the stand that the purse reaches, 0 if there is none."""
     check_level_tables(tables)
     check_whole(k, stand, purse)
-    check_least(k, 0)
     check_least(stand, 0)
     check_range(purse, 0, k)
     for level, table in tables:

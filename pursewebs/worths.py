@@ -53,8 +53,7 @@ def rows_of_levels(web, k, worths):
     row = (0,) * web.size
     for level in levels_of(worths):
         # The numbers never fall from level to level, so the row before is lower here.
-        leveled = web_of_level(web, worths, level)
-        row = numbers_above(leveled, k, row) if found else numbers_at(leveled, k)
+        row = numbers_above(web_of_level(web, worths, level), k, row)
         found.append((level, row))
     return tuple(found)
 

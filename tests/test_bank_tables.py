@@ -23,7 +23,7 @@ TABLE = [(0, 0, 0, None), [0, 0, 1, None], (0, 1, 3, None)]
 RANKS = [(0, 1, 2, 0)] * 3
 STANDS = NO_INTEGERS + numbers(-1, 4, 10 ** 50)
 MOVING = STANDS + [(0, "d"), (3, "d")]
-TABLES = NO_LISTS + [([ROW, bad], letter) for bad, letter in NO_BANK_ROWS] + [([], "c"), ((), "c")]
+TABLES = NO_LISTS + [([ROW, bad, ROW], letter) for bad, letter in NO_BANK_ROWS] + [([], "c"), ((), "c")]
 LONG = [([ROW] * 62, "f"), ([ROW] * 100, "f")]
 RANK_LISTS = NO_LISTS + [([(0, 0, 0, 0), bad, RANKS[0]], "a") for bad, _ in NO_LISTS] + [
     ([RANKS[0], [0, 0, True, 0], RANKS[0]], "a"), ([RANKS[0], [0, 0, None, 0], RANKS[0]], "a"), ([], "c"), (RANKS[:2], "c"),

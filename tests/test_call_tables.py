@@ -224,6 +224,14 @@ class Objects(Refusals):
                 self.assertEqual(other.judged(), ())
                 self.assertEqual([other[k] for k in (0, 7, 50, GREAT)], [table[k] for k in (0, 7, 50, GREAT)])
                 self.assertTrue(other != table)
+            rows = [table.told(k) for k in range(table.start + table.period + 1)]
+            for period in (table.period - 1, table.period + 1):
+                if period > 0:
+                    told = rows[:table.start + period]
+                    slopes = [min(slope, period) for slope in table.slopes]
+                    near = CallTable(web, calls, table.start, period, slopes, [paper.row for paper in told],
+                                     [paper.ranks for paper in told], [paper.counts for paper in told])
+                    self.assertEqual(near.judged(), judged(web, calls, near))
             if table.start > 0:
                 early = CallTable(web, calls, table.start - 1, table.period, table.slopes, table.rows[:-1],
                                   table.ranks[:-1], table.counts[:-1])

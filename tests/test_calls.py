@@ -185,6 +185,9 @@ class ForEver(Refusals):
                         [("chips", plain.price(web, 2000, rows[2000], v)) if v in calls else due
                          for v, due in enumerate(web.dues)])
             self.assertEqual(number_row(ended, 2000), rows[2000])
+        for args, error in (((None, [1]), WrongKind), ((LINE, [4, 0]), WrongNumber), ((LINE, [0]), WrongWeb)):
+            made = forever_rows(*args)
+            self.refused(error, lambda: next(made))
         more = forever_rows(LINE, [1])
         self.assertEqual(len(list(islice(more, 2001))), 2001)
         self.refused(TooMuch, lambda: next(more))

@@ -150,7 +150,8 @@ class WhatIf(Same):
         before = shown(desk)
         for deeds, error in (([["chips_in", 1, 1], ["bid", 9, 0, 0]], WrongNumber), ([["back"], ["back"]], WrongDeed),
                              ([["chips_in", 5000, 1]], TooMuch), ([["back"], ["set_rule", None]], WrongKind),
-                             ([["place", 0, 0], ["claim"], ["bid", 0, 0, 0]], WrongDeed), ([["bid", 0, True, 0]], WrongKind)):
+                             ([["place", 0, 0], ["claim"], ["bid", 0, 0, 0]], WrongDeed), ([["place", 0, 0], ["claim"], ["claim"]], WrongDeed),
+                              ([["bid", 0, True, 0]], WrongKind)):
             self.refused(error, asked(desk), deeds, "numbers")
             self.same(desk, before)
         self.refused(TooMuch, asked(desk), [["set_rule", BankRule()], ["chips_in", 60, 2]], "advice")
